@@ -1,0 +1,1 @@
+"""Dampfield: hidden stones told by counts."""
