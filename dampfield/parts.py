@@ -1,7 +1,7 @@
-"""The parts of a view's edge, and the layings of a part."""
+"""The parts of a view's edge, the layings of a part, and what all layings are put together from."""
 
 from dampfield.errors import NoCell, TooGreat
-from dampfield.views import closed_near, edge, figure, open_near
+from dampfield.views import cells, closed_near, edge, far, figure, is_closed, open_near
 
 MOST_CELLS = 12
 
@@ -65,3 +65,38 @@ def layings(view, cell):
         # with the last cell near it, and then must tell the number to the point.
         begun = [laying for laying in both if may_hold(laying, asked)]
     return sorted(begun)
+
+
+def is_lone(view, cell):
+    return not is_closed(view, cell) and len(closed_near(view, cell)) == 0
+
+
+def lone_layings(view):
+    # No stone can lie near a lone open cell: it leaves the laying without cells if it
+    # tells 0, and else none at all.
+    for cell in cells(view):
+        if is_lone(view, cell) and figure(view, cell) > 0:
+            return []
+    return [[]]
+
+
+def choices(view):
+    # Each is a tuple of some cells and their layings, and no cell stands in two of them.
+    # So one laying out of each, put together, keeps the view, and each laying that keeps
+    # the view is put together in just one way.
+    found = [([], lone_layings(view))]
+    for part in parts(view):
+        found.append((part, layings(view, part[0])))
+    for cell in far(view):
+        found.append(([cell], [[], [cell]]))
+    return found
+
+
+def settled(found, cell, stone):
+    left = []
+    for choice in found:
+        if cell in choice[0]:
+            left.append((choice[0], [laying for laying in choice[1] if (cell in laying) == stone]))
+        else:
+            left.append(choice)
+    return left

@@ -12,13 +12,14 @@ def is_row(row, width):
     return len(row) == width and all([sign in SIGNS for sign in row])
 
 
+def is_size(height, width):
+    return 1 <= height <= MOST_ROWS and 1 <= width <= MOST_COLUMNS
+
+
 def is_view(rows):
-    if not 1 <= len(rows) <= MOST_ROWS:
+    if len(rows) == 0 or not is_size(len(rows), len(rows[0])):
         return False
-    width = len(rows[0])
-    if not 1 <= width <= MOST_COLUMNS:
-        return False
-    return all([is_row(row, width) for row in rows])
+    return all([is_row(row, len(rows[0])) for row in rows])
 
 
 class View:
@@ -91,15 +92,14 @@ def is_laying(view, laying):
     return all([is_closed(view, cell) for cell in laying])
 
 
-def tells_truly(view, cell, laying):
-    stones = [other for other in near(view, cell) if other in laying]
-    return figure(view, cell) == len(stones)
+def stones_near(view, cell, laying):
+    return len([other for other in near(view, cell) if other in laying])
 
 
 def keeps(view, laying):
     if not is_laying(view, laying):
         raise BadLaying("the list is no laying of the view")
     for cell in cells(view):
-        if not is_closed(view, cell) and not tells_truly(view, cell, laying):
+        if not is_closed(view, cell) and figure(view, cell) != stones_near(view, cell, laying):
             return False
     return True

@@ -100,3 +100,63 @@ def all_lists(cells):
     for size in range(len(cells) + 1):
         for chosen in itertools.combinations(cells, size):
             yield list(chosen)
+
+
+# A part of just 12 cells and one of 3, far cells between; and two parts of just 12.
+TWELVE_AND_SMALL = ["######", "233332", "######", "######", "######", "1#####"]
+TWICE_TWELVE = ["######", "233332", "######", "######", "233332", "######"]
+
+# A part of just 13 cells, and an open cell that tells 5 without a closed cell near it.
+GREAT_AND_LYING = ["######", "23333#", "######", "222222", "500000"]
+
+
+def plain_whole(rows):
+    """All layings that keep the view, by going through every list of closed cells."""
+    return [laying for laying in all_lists(plain_closed(rows)) if plain_keeps(rows, laying)]
+
+
+def few_closed_views(how_many, most_closed=8):
+    """Views with few closed cells, true to some laying or not, small enough to go through."""
+    for view in sample_views(how_many, most=3, signs="####0123"):
+        if len(plain_closed(view.rows)) <= most_closed:
+            yield view
+    for view, stones in honest_views(how_many):
+        if len(plain_closed(view.rows)) <= most_closed:
+            yield view
+
+
+def small_parts(rows):
+    return all(len(part) <= 12 for part in plain_parts(rows))
+
+
+def sample_stones(how_many, most=6, share=0.2):
+    """Sizes of fields, each with a rising list of stones."""
+    source = random.Random(22)
+    for turn in range(how_many):
+        height = source.randint(1, most)
+        width = source.randint(1, most)
+        field = itertools.product(range(height), range(width))
+        yield height, width, [cell for cell in field if source.random() < share]
+
+
+def plain_opened(height, width, stones, uncovered):
+    """The cells that are open behind uncovering these, by going round until no more open."""
+    field = list(itertools.product(range(height), range(width)))
+    found = set(uncovered)
+    while True:
+        blank = [cell for cell in found if not any(are_near(cell, stone) for stone in stones)]
+        more = {cell for cell in field if any(are_near(cell, other) for other in blank)}
+        if more <= found:
+            return sorted(found)
+        found |= more
+
+
+def plain_rows(height, width, stones, opened):
+    rows = []
+    for row in range(height):
+        signs = ""
+        for column in range(width):
+            told = sum(are_near(stone, (row, column)) for stone in stones)
+            signs += str(told) if (row, column) in opened else "#"
+        rows.append(signs)
+    return rows

@@ -159,6 +159,19 @@ class Language(unittest.TestCase):
                 self.assertEqual([name for name in bound + defined + read if name in UNUSED_NAMES], [])
                 self.assertEqual([n for n in read if hasattr(builtins, n) and n not in OWN_NAMES], [])
 
+    def test_no_name_is_a_method_and_a_value(self):
+        methods, values = [], []
+        for path, text, tree in sources():
+            for kind in nodes(tree, ast.ClassDef):
+                methods += [inner.name for inner in nodes(kind, ast.FunctionDef)]
+            values += [n.attr for n in nodes(tree, ast.Attribute) if isinstance(n.ctx, ast.Store)]
+        self.assertIn("rows", values)
+        self.assertIn("uncover", methods)
+        self.assertEqual([name for name in values if name in methods], [])
+        for name in values:
+            for kind in (str, int, list, tuple, dict, set, bytes):
+                self.assertFalse(hasattr(kind, name), name)
+
     def test_methods_are_those_that_are_free(self):
         own = set()
         for path, text, tree in sources():
